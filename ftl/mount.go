@@ -6,6 +6,7 @@ import (
 	"shale/api"
 	"shale/checkpoint"
 	"shale/chip"
+	"shale/places"
 	"shale/scan"
 	"shale/table"
 )
@@ -193,7 +194,7 @@ func (m *mounting) byPoint(p checkpoint.Point) []scan.Page {
 			l = append(l, q)
 		}
 	}
-	slices.SortFunc(l, func(a, b scan.Page) int { return byPlace(a.Place, b.Place) })
+	slices.SortFunc(l, func(a, b scan.Page) int { return places.Compare(a.Place, b.Place) })
 	return l
 }
 

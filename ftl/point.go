@@ -1,11 +1,11 @@
 package ftl
 
 import (
-	"cmp"
 	"slices"
 
 	"shale/api"
 	"shale/checkpoint"
+	"shale/places"
 	"shale/table"
 )
 
@@ -55,7 +55,7 @@ func (f *FTL) told(block int) []table.Slot {
 		}
 	}
 	l = slices.DeleteFunc(l, func(s table.Slot) bool { return s.Meta.Kind == api.Check })
-	slices.SortFunc(l, func(s, t table.Slot) int { return byPlace(s.Place, t.Place) })
+	slices.SortFunc(l, func(s, t table.Slot) int { return places.Compare(s.Place, t.Place) })
 	return l
 }
 
@@ -100,9 +100,4 @@ func (f *FTL) replacePieces(laid []table.Slot) error {
 		}
 	}
 	return nil
-}
-
-// byPlace orders places by block, then page.
-func byPlace(p, q api.Place) int {
-	return cmp.Or(cmp.Compare(p.Block, q.Block), cmp.Compare(p.Page, q.Page))
 }

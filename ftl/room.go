@@ -91,9 +91,9 @@ func (f *FTL) block(b int) victim.Block {
 // sealed is the blocks that are neither bad, nor free, nor open.
 func (f *FTL) sealed() []victim.Block {
 	var l []victim.Block
-	open, any := f.log.Open()
+	open, isOpen := f.log.Open()
 	for b := range f.g.Blocks {
-		if !f.d.Bad(b) && !f.free.Has(b) && !(any && b == open) {
+		if !f.d.Bad(b) && !f.free.Has(b) && !(isOpen && b == open) {
 			l = append(l, f.block(b))
 		}
 	}
@@ -159,8 +159,8 @@ func (f *FTL) spread() error {
 		return nil
 	}
 	cold, ok := victim.Cold(f.candidates())
-	_, least, any := f.free.Least()
-	if !ok || any && cold.Worn >= least {
+	_, least, isFree := f.free.Least()
+	if !ok || isFree && cold.Worn >= least {
 		return nil
 	}
 	return f.empty(cold.Number)

@@ -3,6 +3,7 @@ package scan
 import (
 	"shale/api"
 	"shale/meta"
+	"shale/places"
 	"shale/table"
 )
 
@@ -39,7 +40,7 @@ func (c *chart) fill(l []Page) bool {
 		if b < 0 || b >= len(c.grid) || n < 0 || n >= len(c.grid[0]) || c.skip[b] || p.Class < api.Whole || p.Class > api.Torn {
 			return false
 		}
-		if i > 0 && byPlace(l[i-1].Place, p.Place) >= 0 {
+		if i > 0 && places.Compare(l[i-1].Place, p.Place) >= 0 {
 			return false
 		}
 		c.grid[b][n] = p
@@ -71,8 +72,8 @@ func (c *chart) whole(is func(b int) bool) func(yield func(Page) bool) {
 	}
 }
 
-// any lets all blocks be.
-func (c *chart) any(int) bool { return true }
+// every lets no block out.
+func (c *chart) every(int) bool { return true }
 
 // headed tells whether the block's first page is a whole Head of it.
 func (c *chart) headed(b int) bool {
@@ -97,7 +98,7 @@ func (c *chart) findBad() {
 
 // count takes the greatest numbers.
 func (c *chart) count(r *Result) {
-	for p := range c.whole(c.any) {
+	for p := range c.whole(c.every) {
 		r.Seq, r.Stamp, r.Batch = max(r.Seq, p.Meta.Seq), max(r.Stamp, p.Meta.Stamp), max(r.Batch, p.Meta.Batch)
 	}
 	for p := range c.whole(c.counts) {
