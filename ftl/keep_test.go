@@ -399,3 +399,65 @@ func TestGarbage(t *testing.T) {
 }
 
 func slotAt(p api.Place, m api.Meta) table.Slot { return table.Slot{Key: m.Key, Place: p, Meta: m} }
+
+// TestMountOwes: where no block is free yet the Bad of one whose erase fails is laid as soon as one is.
+func TestMountOwes(t *testing.T) {
+	g := reserved()
+	blocks := map[int][]api.Meta{}
+	for b := range g.Blocks {
+		blocks[b] = []api.Meta{data(b, b+1, 100*b+2, 0)}
+		if b < 3 {
+			blocks[b] = []api.Meta{data(b, b+1, 100*b+2, 9)}
+		}
+	}
+	c := byHand(t, g, blocks)
+	c.Plan([]api.Fault{{Op: c.Ops() + reads(c, g), Kind: api.Fail}})
+	f := mounted(t, c, g, false)
+	l := f.Slots()
+	last := l[len(l)-1]
+	if s := f.Stats(); s.Bad != 1 || s.Free != 1 || s.Erased != 2 || s.Sealed != 12 || last.Meta.Kind != api.Bad || last.Meta.Key != 0 || last.Place != at(1, 1) {
+		t.Error(s, last)
+	}
+	if m := mounted(t, c, g, false); m.Stats().Bad != 1 || c.Used(at(2, 0)) {
+		t.Error(m.Stats())
+	}
+}
+
+// reads is how many reads a mount begins with.
+func reads(c *chip.Chip, g api.Geometry) int {
+	n := 0
+	for b := range g.Blocks {
+		for i := range g.Pages {
+			n += g.Levels
+			if c.Used(at(b, i)) {
+				n -= g.Levels - 1
+			}
+		}
+	}
+	return n
+}
+
+// TestPointHeads: a point tells the stamps of all Heads, also of blocks that failed as soon as they were opened.
+func TestPointHeads(t *testing.T) {
+	g := big()
+	g.Blocks, g.Reserve = 14, 4
+	f, c := formatted(t, g, nil)
+	put(t, f, 1, 0)
+	f.log.Seal()
+	// Fails: a Head that is all laid; a page behind a Head; a page in the middle.
+	c.Plan([]api.Fault{{Op: c.Ops(), Kind: api.Fail, N: 1000}, {Op: c.Ops() + 2, Kind: api.Fail}, {Op: c.Ops() + 5, Kind: api.Fail}})
+	put(t, f, 1, 1, 2, 3)
+	f.log.Seal()
+	if err := f.Point(); err != nil {
+		t.Fatal(err)
+	}
+	_, p := readPoint(t, f)
+	if len(p.Blocks) != 5 || len(f.log.Failed()) != 3 {
+		t.Fatal(p.Blocks, f.log.Failed())
+	}
+	for _, b := range p.Blocks {
+		if x := raw(t, f, at(b.Number, 0)); x.Class != api.Whole || x.Meta.Stamp != b.Stamp {
+			t.Error(b, x.Meta)
+		}
+	}
+}
