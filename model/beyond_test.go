@@ -125,6 +125,7 @@ func (w *world) revive() {
 	}
 }
 
+// TestBeyond (P0.10): scripts on chips that turn any number of bits, and fail as often as they like.
 func TestBeyond(t *testing.T) {
 	done := 0
 	for seed := range int64(70) {

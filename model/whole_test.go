@@ -10,6 +10,7 @@ import (
 	"shale/chip"
 	"shale/decode"
 	"shale/disk"
+	"shale/encode"
 	"shale/ftl"
 	"shale/model"
 	"shale/page"
@@ -330,6 +331,34 @@ func listed(d *disk.Disk, ok bool) []table.Slot {
 	return d.FTL().Slots()
 }
 
+// TestMending (P0.8): whatever at most t bits of a codeword are turned, it is mended; of more it is told that it is
+// not, or it comes to another codeword.
+func TestMending(t *testing.T) {
+	r := rand.New(rand.NewSource(1))
+	for _, g := range append(geometries(), api.Geometry{Sector: 1024, M: 14, T: 16}) {
+		c, err := encode.New(g.M, g.T, g.Sector+api.MetaBytes)
+		if err != nil {
+			t.Fatal(g, err)
+		}
+		for range 60 {
+			data := make([]byte, c.Data())
+			r.Read(data)
+			parity, _ := c.Fast(data)
+			n := r.Intn(3 * g.T)
+			a, b := data, parity
+			for _, at := range r.Perm(c.Bits())[:n] {
+				a, b, _ = c.Flip(a, b, at)
+			}
+			x, y, places, err := decode.New(c).Decode(a, b)
+			mended := err == nil && bytes.Equal(x, data) && bytes.Equal(y, parity) && len(places) == n
+			if n <= g.T && !mended || n > g.T && err != api.ErrMany && (mended || !c.Right(x, y)) {
+				t.Fatal(g, n, err)
+			}
+		}
+	}
+}
+
+// TestWhole (P0.9, P0.11, P0.12, P0.13): scripts with turned bits, fails and cuts, on chips of all proportions.
 func TestWhole(t *testing.T) {
 	within, cuts := 0, 0
 	for seed := range int64(140) {
