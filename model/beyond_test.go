@@ -14,10 +14,10 @@ func (w *world) storm(cut bool) {
 	var l []api.Fault
 	from := w.c.Ops()
 	for len(l) < api.MaxFaults-2 && w.r.Intn(500) > 0 {
-		bits := w.r.Perm(8 * w.codec.Size())[:w.r.Intn(5*w.g.T)]
+		bits := w.r.Perm(8 * w.codec.Size())[:w.r.Intn(15*w.g.T)]
 		l = append(l, api.Fault{Op: from + w.r.Intn(800), Kind: api.Flip, Level: w.r.Intn(w.g.Levels+1) - 1, Bits: bits})
 	}
-	for w.r.Intn(3) == 0 {
+	for w.r.Intn(3) > 0 {
 		l = append(l[:min(len(l), 900)], api.Fault{Op: from + w.r.Intn(300), Kind: api.Fail, N: w.r.Intn(w.codec.Size() + 2)})
 	}
 	if cut {
@@ -53,10 +53,12 @@ func (p *past) read(key int, data []byte) bool {
 	return false
 }
 
-func (p *past) mounted() {
+// forget lets nothing be known for sure behind a mount, which may not have been able to read what it was.
+func (w *world) forget(p *past) {
 	for key := range p.now {
 		p.now[key] = nil
 	}
+	clear(w.bad)
 }
 
 // rage does steps on a chip that keeps to no bound, but that no page comes to one that was never laid there.
@@ -80,7 +82,7 @@ func (w *world) rage(steps int) bool {
 		switch {
 		case a.Err == api.ErrDead:
 			w.revive()
-			p.mounted()
+			w.forget(p)
 		case a.Err == api.ErrNumber || a.Err == api.ErrSize || a.Err == api.ErrMany:
 		case s.Kind == disk.Read && a.Err == api.ErrPage:
 		case a.Err == api.ErrFull || a.Err == api.ErrReadOnly:
@@ -89,7 +91,7 @@ func (w *world) rage(steps int) bool {
 			}
 			if w.r.Intn(5) == 0 {
 				w.revive()
-				p.mounted()
+				w.forget(p)
 			}
 		case a.Err != nil:
 			w.fatal("not allowed", s.Kind, a.Err)
@@ -100,7 +102,7 @@ func (w *world) rage(steps int) bool {
 		case s.Kind == disk.Trim:
 			p.write(s.A, make([]byte, w.g.Sector))
 		case s.Kind == disk.Remount:
-			p.mounted()
+			w.forget(p)
 		}
 		if w.other {
 			return false
